@@ -1,0 +1,1 @@
+"""Stairlots: lots of whole tables with ones from corner to corner and zeros beneath."""

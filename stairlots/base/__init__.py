@@ -1,0 +1,1 @@
+"""Integers, ratios and shapes."""

@@ -1,0 +1,1 @@
+"""Lots, their chains, and the derivations of their members."""

@@ -1,0 +1,153 @@
+"""Chains of lots, by the entries of their members.
+
+A chain has for each index of a place the entries of the member with its lead there, or None. It is *closed* if the
+products of powers of its members, in their order, are all members of a lot. With a modulus other than 0 all entries are
+remainders; then a lead number can be the modulus itself, if nothing less leads there.
+"""
+
+from stairlots.base.wholes import shared_divisor
+from stairlots.stair.tables import bracket, lead_at, raised, times, undone
+
+
+def divided(plan, chain, numbers, modulus=0):
+    """What is left of a stair behind the powers by which it can be divided from the left, and these powers."""
+    powers = []
+    for at, member in enumerate(chain):
+        number = numbers[at]
+        if number == 0:
+            continue
+        if member is None or number % member[at]:
+            break
+        many = number // member[at]
+        powers.append((at, many))
+        numbers = times(plan, raised(plan, member, -many, modulus), numbers, modulus)
+    return numbers, powers
+
+
+def shortened(plan, chain, numbers, modulus=0):
+    """The stair with the least entries behind its lead, and the powers it is multiplied by from the right."""
+    powers = []
+    lead = lead_at(numbers)
+    if lead is None:
+        return numbers, powers
+    for at in range(lead + 1, len(chain)):
+        if chain[at] is None or 0 <= numbers[at] < chain[at][at]:
+            continue
+        many = -(numbers[at] // chain[at][at])
+        powers.append((at, many))
+        numbers = times(plan, numbers, raised(plan, chain[at], many, modulus), modulus)
+    return numbers, powers
+
+
+def neat(plan, chain, names, name, numbers, modulus):
+    """What the chain leaves of a stair, its lead number above 0, and the powers of steps that make it."""
+    numbers, powers = divided(plan, chain, numbers, modulus)
+    pairs = [(names[at], -many) for at, many in reversed(powers)] + [(name, 1)]
+    lead = lead_at(numbers)
+    if lead is not None and numbers[lead] < 0:
+        numbers = undone(plan, numbers, modulus)
+        pairs = [(step, -many) for step, many in reversed(pairs)]
+    numbers, powers = shortened(plan, chain, numbers, modulus)
+    return numbers, tuple(pairs + [(names[at], many) for at, many in powers])
+
+
+def mixed(plan, one, other, lead, modulus):
+    """Two products of powers of two stairs with this lead, as (entries, power of one, power of the other).
+
+    The first one has the greatest common divisor as its lead number; the second one leads further behind. What both
+    stairs make, these two make as well: they do so but for brackets, and with the brackets of what they make.
+    """
+    divisor, share, rest = shared_divisor(one[lead], other[lead])
+    found = []
+    for first, second in ((share, rest), (-(other[lead] // divisor), one[lead] // divisor)):
+        made = times(plan, raised(plan, one, first, modulus), raised(plan, other, second, modulus), modulus)
+        found.append((made, first, second))
+    return found
+
+
+def placed(plan, chain, names, first, numbers, step, modulus):
+    """A chain with a further stair, the worth of a step: its members, their names, the steps, and the changed places.
+
+    The first of the steps is to get the name `first`. The brackets with what is new are not looked at.
+    """
+    found = list(chain)
+    called = list(names)
+    steps = []
+    changed = []
+    while True:
+        name = first + len(steps)
+        numbers, powers = neat(plan, found, called, name, numbers, modulus)
+        lead = lead_at(numbers)
+        if lead is None:
+            return found, called, steps, changed
+        steps.append(step)
+        if powers != ((name, 1),):
+            steps.append(("product", powers))
+            name += 1
+        changed.append(lead)
+        if found[lead] is None:
+            found[lead] = numbers
+            called[lead] = name
+            return found, called, steps, changed
+        (fresh, one, other), (numbers, back, forth) = mixed(plan, found[lead], numbers, lead, modulus)
+        step = ("product", ((called[lead], back), (name, forth)))
+        steps.append(("product", ((called[lead], one), (name, other))))
+        found[lead] = fresh
+        called[lead] = name + 1
+
+
+def tidied(plan, chain, names, first, modulus):
+    """The least chain for a closed one, its names, and the steps, from the name `first` on, that lead to it."""
+    least = list(chain)
+    called = list(names)
+    steps = []
+    for at in reversed(range(len(plan))):
+        if least[at] is None:
+            continue
+        numbers, powers = shortened(plan, least, least[at], modulus)
+        if powers:
+            steps.append(("product", tuple([(called[at], 1)] + [(called[place], many) for place, many in powers])))
+            least[at] = numbers
+            called[at] = first + len(steps) - 1
+    return least, called, steps
+
+
+def open_pairs(chain, changed, modulus):
+    """The pairs of indices, the greater one first, with a changed one, of chain members with a bracket to look at."""
+    there = [at for at, member in enumerate(chain) if member is not None and member[at] != modulus]
+    return [(high, low) for low in there for high in there if low < high and (low in changed or high in changed)]
+
+
+def by_leads(makers):
+    """The indices of all makers but ones, those whose leads stand ahead first."""
+    return sorted([at for at, numbers in enumerate(makers) if any(numbers)], key=lambda at: lead_at(makers[at]))
+
+
+def grown(plan, makers, modulus=0):
+    """The least chain of what some stairs make, the names of its members, and steps from the makers.
+
+    A name is the index of the step whose worth the member is.
+    """
+    chain = [None] * len(plan)
+    names = [None] * len(plan)
+    steps = []
+    pairs = []
+    waiting = list(by_leads(makers))
+    while pairs or waiting:
+        # What stands furthest behind comes first: it keeps the entries of all that follows small.
+        if pairs:
+            high, low = pairs.pop()
+            numbers = bracket(plan, chain[low], chain[high], modulus)
+            step = ("bracket", names[low], names[high])
+        else:
+            index = waiting.pop()
+            numbers, step = makers[index], ("maker", index)
+        found, called, more, changed = placed(plan, chain, names, len(steps), numbers, step, modulus)
+        if changed:
+            steps.extend(more)
+            least, called, more = tidied(plan, found, called, len(steps), modulus)
+            steps.extend(more)
+            chain = least
+            names = called
+            pairs = sorted(set(pairs + open_pairs(chain, changed, modulus)))
+    return chain, names, steps

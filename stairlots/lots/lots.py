@@ -1,0 +1,154 @@
+"""Lots: all products of some stairs, and of stairs that undo these."""
+
+from stairlots.base.shapes import check_shape, places
+from stairlots.base.wholes import is_integer
+from stairlots.errors import InvalidLot, InvalidOperation, InvalidStair
+from stairlots.lots.chains import divided, grown
+from stairlots.lots.commons import common_chain
+from stairlots.stair.stairs import are_stairs, check_stair, is_stair, stair_with
+from stairlots.stair.tables import lone, ones, plan_of, raised, times
+
+MAX_MAKERS = 6
+
+
+class Lot:
+    """The lot of a shape that some stairs, its makers, make. It never changes."""
+
+    def __init__(self, shape, makers):
+        check_shape(shape)
+        if not are_stairs(shape, makers, MAX_MAKERS):
+            raise InvalidStair("the makers are a tuple of at most six stairs of the shape")
+        plan = plan_of(shape)
+        self._shape = shape
+        self._makers = makers
+        self._rows = tuple(grown(plan, [maker.numbers for maker in makers])[0])
+        self._chain = members_of(shape, self._rows)
+
+    @classmethod
+    def every(cls, shape):
+        """The lot of all stairs of a shape."""
+        check_shape(shape)
+        plan = plan_of(shape)
+        return lot_with(shape, tuple([lone(plan, at, 1) for at in range(len(plan))]))
+
+    @property
+    def shape(self):
+        """The shape."""
+        return self._shape
+
+    @property
+    def makers(self):
+        """The makers, as they were passed."""
+        return self._makers
+
+    @property
+    def chain(self):
+        """The least chain."""
+        return self._chain
+
+    @property
+    def leads(self):
+        """The dict from the lead places, in their order, to the lead numbers."""
+        leads = [None if row is None else row[at] for at, row in enumerate(self._rows)]
+        return {place: lead for place, lead in zip(places(self._shape), leads) if lead is not None}
+
+    def __contains__(self, value):
+        return is_stair(self._shape, value) and has_numbers(self, value.numbers)
+
+    def exponents(self, stair):
+        """The exponents with which the chain members make a member."""
+        check_stair(self._shape, stair)
+        left, powers = divided(plan_of(self._shape), self._rows, stair.numbers)
+        if any(left):
+            raise InvalidOperation("this stair is no member")
+        found = dict(powers)
+        return tuple([found.get(at, 0) for at, row in enumerate(self._rows) if row is not None])
+
+    def member(self, exponents):
+        """The member with these exponents."""
+        if not isinstance(exponents, tuple) or len(exponents) != len(self._chain):
+            raise InvalidOperation("there is one exponent for each chain member")
+        if not all([is_integer(number) for number in exponents]):
+            raise InvalidOperation("exponents are integers")
+        plan = plan_of(self._shape)
+        found = ones(plan)
+        for one, number in zip(self._chain, exponents):
+            found = times(plan, found, raised(plan, one.numbers, number))
+        return stair_with(self._shape, found)
+
+    def is_within(self, other):
+        """Whether all members are members of the other lot, too."""
+        check_lot_of(self._shape, other)
+        return all([has_numbers(other, one.numbers) for one in self._chain])
+
+    def index_in(self, other):
+        """The index of this lot in the other one, or None."""
+        if not self.is_within(other):
+            raise InvalidOperation("this lot is not within the other one")
+        found = 1
+        for at, row in enumerate(self._rows):
+            outer = other._rows[at]
+            if row is None and outer is not None:
+                return None
+            if row is not None:
+                found = found * (row[at] // outer[at])
+        return found
+
+    def __or__(self, other):
+        if not isinstance(other, Lot):
+            raise TypeError("only lots are joined")
+        check_lot_of(self._shape, other)
+        makers = [one.numbers for one in self._chain + other._chain]
+        return lot_with(self._shape, tuple(grown(plan_of(self._shape), makers)[0]))
+
+    def __and__(self, other):
+        if not isinstance(other, Lot):
+            raise TypeError("only lots have a common part")
+        check_lot_of(self._shape, other)
+        return lot_with(self._shape, common_chain(plan_of(self._shape), self._rows, other._rows))
+
+    def __eq__(self, other):
+        return isinstance(other, Lot) and self._shape == other._shape and self._rows == other._rows
+
+    def __len__(self):
+        return len(self._chain)
+
+    def __bool__(self):
+        return bool(self._chain)
+
+    def __iter__(self):
+        return iter(self._chain)
+
+    def __str__(self):
+        return f"lot of {len(self._chain)} in {self._shape}"
+
+
+def members_of(shape, rows):
+    """The stairs of a chain, from the entries at each place or None."""
+    return tuple([stair_with(shape, row) for row in rows if row is not None])
+
+
+def lot_with(shape, rows):
+    """The lot with this least chain, which are its makers as well."""
+    made = Lot(shape, ())
+    made._rows = rows
+    made._chain = members_of(shape, rows)
+    made._makers = made._chain
+    return made
+
+
+def has_numbers(lot, numbers):
+    """Whether the stair with these entries is a member."""
+    return not any(divided(plan_of(lot._shape), lot._rows, numbers)[0])
+
+
+def check_lot(value):
+    """InvalidLot unless the value is a lot."""
+    if not isinstance(value, Lot):
+        raise InvalidLot("this is no lot")
+
+
+def check_lot_of(shape, value):
+    """InvalidLot unless the value is a lot of the shape."""
+    if not isinstance(value, Lot) or value._shape != shape:
+        raise InvalidLot("this is no lot of the shape")

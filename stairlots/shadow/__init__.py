@@ -1,0 +1,1 @@
+"""Shadows of lots modulo an integer."""

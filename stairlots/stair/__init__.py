@@ -1,0 +1,1 @@
+"""Stairs, and the singles of which they are products."""

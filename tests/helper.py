@@ -1,0 +1,101 @@
+"""What the tests share: values of every kind that is refused, a second arithmetic, and made-up stairs."""
+
+import random
+
+from stairlots.base.ratios import Ratio
+from stairlots.base.shapes import places
+from stairlots.errors import InvalidShape, ParseError
+from stairlots.lots.lots import Lot
+from stairlots.shadow.shadows import Shadow
+from stairlots.stair.stairs import Stair
+
+A = Stair.read("1 0/0")
+B = Stair.read("0 0/1")
+C = Stair.read("0 1/0")
+ALL3 = Lot((3,), (A, B))
+EVEN = Lot((3,), (A.power(2), B))
+T = Stair.read("4 1/0")
+U = Stair.read("4 0/0")
+SLANT = Lot((3,), (T,))
+
+LONGEST = 10 ** 60 - 1
+TOO_LONG = 10 ** 60
+
+SHAPES = ((2,), (3,), (4,), (5,), (6,), (2, 3), (3, 2), (4, 4), (6, 2), (2, 2, 2), (3, 3, 2), (4, 2, 2))
+
+NUMBERS = (0, 1, -1, 2, 3, 6, LONGEST, -LONGEST, TOO_LONG, -TOO_LONG, 10 ** 99, -(10 ** 100 - 1))
+OTHERS = (
+    True, False, None, "", "1", "maker", "1 0/0", " \n~", "x" * 4000,
+    (), (1,), (True,), (3,), (3, 2), (6, 3), (2, 2, 2, 2), (0, 0, 1), (0, 1, 2), ("maker", 0), ((1, 0), (0, 1)),
+    ((((((((),),),),),),),), [], [3], [[[]]], [A], {}, {1: 2}, {(0, 0, 1): 1}, {"a": [{}]}, (None,), ("", []), (A, None),
+    Ratio(1, 2), Ratio(3), A, Stair.one((2,)), Stair.one((2, 3)), ALL3, Lot((2,), ()), Shadow(ALL3, 2),
+    (A, B), [A, B], (Ratio(1),), (Stair.one((2,)),), (A, Stair.one((4,))), InvalidShape("no"), ParseError(0),
+)
+VALUES = NUMBERS + OTHERS
+
+
+def is_plain(value, kind):
+    """Whether the value is of just this kind."""
+    return type(value) is kind
+
+
+def table_product(one, other):
+    """The product of two whole tables."""
+    size = len(one)
+    inner = range(size)
+    return tuple(tuple(sum(one[i][k] * other[k][j] for k in inner) for j in inner) for i in inner)
+
+
+def product_tables(one, other):
+    """The tables of the product of two stairs, from their tables."""
+    return tuple(table_product(a, b) for a, b in zip(one.tables, other.tables))
+
+
+def made_up_stair(source, shape, most, part=1.0):
+    """A stair with entries from -most to most; some of them are 0."""
+    return Stair(shape, {place: source.randint(-most, most) for place in places(shape) if source.random() < part})
+
+
+def made_up_lot(source, shape, most, many, part=1.0):
+    """A lot with so many makers."""
+    return Lot(shape, tuple(made_up_stair(source, shape, most, part) for _ in range(many)))
+
+
+def made_up_member(source, lot, most=5):
+    """A product of some makers and of what undoes them."""
+    found = Stair.one(lot.shape)
+    for _ in range(4):
+        if lot.makers:
+            found = found * source.choice(lot.makers).power(source.randint(-most, most))
+    return found
+
+
+def sample_lots(seed, most=9, rounds=2, shapes=SHAPES):
+    """Lots of all kinds of shapes, with no makers, one, and up to six."""
+    source = random.Random(seed)
+    found = []
+    for shape in shapes:
+        for many in (0, 1, 2, 3, 6):
+            for _ in range(rounds):
+                found.append(made_up_lot(source, shape, most, many, source.choice((0.2, 0.5, 1.0))))
+    return found
+
+
+def rest_of(stair, modulus):
+    """The entries modulo an integer."""
+    return tuple(number % modulus for number in stair.numbers)
+
+
+def shadow_by_search(lot, modulus):
+    """All rests of members: what comes of the makers, step by step."""
+    first = rest_of(Stair.one(lot.shape), modulus)
+    found, fresh = {first}, [first]
+    order = places(lot.shape)
+    while fresh:
+        stair = Stair(lot.shape, dict(zip(order, fresh.pop())))
+        for maker in lot.makers:
+            made = rest_of(stair * maker, modulus)
+            if made not in found:
+                found.add(made)
+                fresh.append(made)
+    return found
