@@ -34,11 +34,6 @@ OTHERS = (
 VALUES = NUMBERS + OTHERS
 
 
-def is_plain(value, kind):
-    """Whether the value is of just this kind."""
-    return type(value) is kind
-
-
 def table_product(one, other):
     """The product of two whole tables."""
     size = len(one)

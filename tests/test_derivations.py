@@ -2,9 +2,10 @@
 
 import random
 import unittest
+import unittest.mock
 
 from stairlots.base.shapes import is_shape, places
-from stairlots.errors import InvalidLot, InvalidOperation, InvalidShape, InvalidStair
+from stairlots.errors import InvalidLot, InvalidOperation, InvalidShape, InvalidStair, TooMany
 from stairlots.lots import derivations
 from stairlots.lots.derivations import derivation, is_derivation, worth
 from stairlots.lots.lots import Lot
@@ -21,7 +22,8 @@ WRONG_STEPS = (
     ("product", ((0, True),)), ("product", ((False, 1),)), ("product", ((0, 1, 1),)), ("product", ((0,),)),
     ("product", [(0, 1)]), ("product", ([0, 1],)), ("product", ((0, None),)), ("product", ((0, 1), None)), ("product",),
     ("product", (), ()), ("bracket", 0), ("bracket", 0, 1), ("bracket", 1, 0), ("bracket", -1, 0),
-    ("bracket", 0, False), ("bracket", 0, 0, 0), ("bracket", (0, 0)), ("bracket", "0", 0), ("bracket", 0, 10 ** 99),
+    ("bracket", 0, False), ("bracket", 0, 0, 0), ("bracket", (0, 0)), ("brackets", 0, 0),
+    ("maker", 0, 0), ("product", 0, 0), (None, 0, 0), ("bracket", "0", 0), ("bracket", 0, 10 ** 99),
     ("product", ((10 ** 99, 1),)), ("product", {(0, 1): 1}), ("product", "ab"), (("maker",), 0), A, None, {},
 )
 
@@ -150,6 +152,17 @@ class DerivationTest(unittest.TestCase):
 
     def test_equal_calls_have_equal_results(self):
         self.assertEqual(derivation(EVEN, C.power(4)), derivation(Lot((3,), (A.power(2), B)), C.power(4)))
+
+    def test_too_many_steps(self):
+        # Lots that need so many steps are out of reach here: the limit is put lower.
+        steps = derivation(EVEN, C.power(4))
+        with unittest.mock.patch.object(derivations, "MAX_STEPS", len(steps)):
+            self.assertEqual(derivation(EVEN, C.power(4)), steps)
+        with unittest.mock.patch.object(derivations, "MAX_STEPS", len(steps) - 1):
+            with self.assertRaises(TooMany) as caught:
+                derivation(EVEN, C.power(4))
+            self.assertEqual(caught.exception.most, len(steps) - 1)
+            self.assertRaises(InvalidOperation, derivation, EVEN, C)
 
     def test_what_is_no_member(self):
         self.assertRaises(InvalidOperation, derivation, EVEN, C)

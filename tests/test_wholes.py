@@ -88,6 +88,10 @@ class DivisorTest(unittest.TestCase):
                 divisors(value)
             self.assertIs(caught.exception.given, value)
 
+    def test_power_of_ten(self):
+        for many in (0, 1, 49, 50, 51, 130, 4000):
+            self.assertEqual(wholes.power_of_ten(many), 10 ** many)
+
     def test_shared_divisor(self):
         for one in (-12, 0, 5, 18, 10 ** 70):
             for other in (-9, 0, 1, 24, 3 ** 90):
