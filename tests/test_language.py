@@ -34,9 +34,8 @@ def is_made_here(value):
     """Whether an expression makes a new list or dict."""
     if isinstance(value, OWN_KINDS):
         return True
-    if isinstance(value, ast.Call):
-        return isinstance(value.func, ast.Name) and value.func.id in ("list", "dict", "sorted")
-    return isinstance(value, ast.BinOp) and isinstance(value.left, ast.List)
+    # A sign such as `*` or `+` does not plainly make one where classes of the package define it.
+    return isinstance(value, ast.Call) and isinstance(value.func, ast.Name) and value.func.id in ("list", "dict", "sorted")
 
 
 class LanguageTest(unittest.TestCase):

@@ -10,7 +10,7 @@ def kernel(plan, chain, values):
 
     `values` are those of the chain members, in their order. The least value so far is kept with a member that has it.
     """
-    found = [None] * len(chain)
+    found = [None for _ in chain]
     holder, least = ones(plan), 0
     for at in reversed(range(len(chain))):
         member, value = chain[at], values[at]
