@@ -94,3 +94,49 @@ def shadow_by_search(lot, modulus):
                 found.add(made)
                 fresh.append(made)
     return found
+
+
+def shadow_stairs(lot, modulus):
+    """All rests of members as stairs."""
+    order = places(lot.shape)
+    return [Stair(lot.shape, dict(zip(order, numbers))) for numbers in sorted(shadow_by_search(lot, modulus))]
+
+
+def small_cases(seed, shapes=((2,), (3,), (2, 3), (2, 2, 2), (4,)), most=4, size=700, moduli=(2, 3, 4, 6, 8, 9)):
+    """Lots and moduli with so few members of their shadows that all can be looked at."""
+    source = random.Random(seed)
+    for shape in shapes:
+        for many in (0, 1, 2, 3):
+            for modulus in moduli:
+                lot = made_up_lot(source, shape, most, many, source.choice((0.4, 1)))
+                if modulus ** len(places(shape)) <= size:
+                    yield lot, modulus, shadow_stairs(lot, modulus)
+
+
+def long_single(shape, place, bits):
+    """The stair whose only entry other than 0 is so great a power of 2."""
+    stair = Stair.single(shape, place, 2 ** (bits % 100))
+    for _ in range(bits // 100):
+        stair = stair.power(2 ** 100)
+    return stair
+
+
+def sample_stair(source, lot, most):
+    """A member, or what is near a member, or any stair."""
+    kind = source.randrange(3)
+    member = made_up_member(source, lot, 2)
+    if kind == 0:
+        return member
+    if kind == 1:
+        return member * made_up_stair(source, lot.shape, most, 0.2)
+    return made_up_stair(source, lot.shape, most, source.choice((0.4, 1)))
+
+
+def wrong_members(shape):
+    """Values that are no stairs of the shape."""
+    return [value for value in VALUES if not isinstance(value, Stair) or value.shape != shape]
+
+
+def wrong_lots(shape):
+    """Values that are no lots of the shape."""
+    return [value for value in VALUES if not isinstance(value, Lot) or value.shape != shape]

@@ -16,7 +16,7 @@ BARRED_NODES = (ast.Try, ast.Global, ast.AsyncFunctionDef, ast.Await, ast.With, 
                 ast.Import, ast.AnnAssign, ast.Match, ast.NamedExpr, ast.YieldFrom)
 BARRED_WORDS = re.compile(r"\b(type|typing|enum|Enum|Generic|Protocol|ABC|namedtuple|register|mro|elements|open|input|law|"
                           r"eval|exec|globals|locals|vars|dir|id|hash|object|chr|print|super|format|_wall)\b")
-METHODS = set("append extend items get split join pop".split())
+METHODS = set("append extend items get split join pop bit_length".split())
 CHANGES = {"append", "extend", "pop"}
 OWN_KINDS = (ast.List, ast.ListComp, ast.Dict, ast.DictComp)
 LIBRARY = {"math": {"gcd"}}
@@ -36,6 +36,11 @@ def is_made_here(value):
         return True
     # A sign such as `*` or `+` does not plainly make one where classes of the package define it.
     return isinstance(value, ast.Call) and isinstance(value.func, ast.Name) and value.func.id in ("list", "dict", "sorted")
+
+
+def is_made_of_own(value):
+    """Whether an expression makes a new list of new lists or dicts."""
+    return isinstance(value, ast.ListComp) and isinstance(value.elt, OWN_KINDS)
 
 
 class LanguageTest(unittest.TestCase):
@@ -145,20 +150,26 @@ class LanguageTest(unittest.TestCase):
                             if not isinstance(name, ast.Name):
                                 continue
                             values.setdefault(name.id, []).append(node.value if name is target else None)
-            for name in self.changed(function):
+            for name, is_made in self.changed(function):
                 # Plain results of own functions may not be changed; names that are unpacked may not either.
-                self.assertTrue(name in values and all(is_made_here(value) for value in values[name]),
+                self.assertTrue(name in values and all(is_made(value) for value in values[name]),
                                 f"{name} in {function.name}")
 
     def changed(self, function):
-        """The names of lists and dicts that a function changes."""
+        """The names of lists and dicts that a function changes, or whose items it changes, and what is to make them."""
         for node in ast.walk(function):
             if isinstance(node, ast.Call) and isinstance(node.func, ast.Attribute) and node.func.attr in CHANGES:
-                self.assertIsInstance(node.func.value, ast.Name)
-                yield node.func.value.id
-            if isinstance(node, ast.Subscript) and isinstance(node.ctx, ast.Store):
-                self.assertIsInstance(node.value, ast.Name)
-                yield node.value.id
+                spot = node.func.value
+            elif isinstance(node, ast.Subscript) and isinstance(node.ctx, ast.Store):
+                spot = node.value
+            else:
+                continue
+            if isinstance(spot, ast.Subscript):
+                self.assertIsInstance(spot.value, ast.Name)
+                yield spot.value.id, is_made_of_own
+            else:
+                self.assertIsInstance(spot, ast.Name)
+                yield spot.id, is_made_here
 
     def test_double_underscore_methods(self):
         for function in self.functions():

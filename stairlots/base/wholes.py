@@ -7,6 +7,8 @@ from stairlots.errors import InvalidNumber
 MAX_DIGITS = 60
 
 _LIMIT = 10 ** 60
+_MODULUS_DIGITS = 4000
+_MODULUS_BITS = 13288
 _MOST_CHOSEN = 60
 _MOST_DIVIDED = 10 ** 6
 
@@ -39,6 +41,17 @@ def power_of_ten(many):
     for _ in range(many % 50):
         found = found * 10
     return found
+
+
+def is_short(number):
+    """Whether an integer has at most 4000 digits."""
+    bits = number.bit_length()
+    return bits < _MODULUS_BITS or bits == _MODULUS_BITS and abs(number) < power_of_ten(_MODULUS_DIGITS)
+
+
+def is_modulus(value):
+    """Whether the value is an integer of at least 2 with at most 4000 digits."""
+    return is_whole(value) and value >= 2 and is_short(value)
 
 
 def binomial(number, many):

@@ -2,7 +2,7 @@
 
 A chain has for each index of a place the entries of the member with its lead there, or None. It is *closed* if the
 products of powers of its members, in their order, are all members of a lot. With a modulus other than 0 all entries are
-remainders; then a lead number can be the modulus itself, if nothing less leads there.
+remainders.
 """
 
 from stairlots.base.wholes import shared_divisor
@@ -24,6 +24,11 @@ def divided(plan, chain, numbers, modulus=0):
     return numbers, powers
 
 
+def has_member(plan, chain, numbers):
+    """Whether the stair with these entries is a member."""
+    return not any(divided(plan, chain, numbers)[0])
+
+
 def shortened(plan, chain, numbers, modulus=0):
     """The stair with the least entries behind its lead, and the powers it is multiplied by from the right."""
     powers = []
@@ -39,33 +44,42 @@ def shortened(plan, chain, numbers, modulus=0):
     return numbers, powers
 
 
-def neat(plan, chain, names, name, numbers, modulus):
+def least_rows(plan, chain, modulus=0):
+    """The least chain for a closed one."""
+    least = list(chain)
+    for at in reversed(range(len(plan))):
+        if least[at] is not None:
+            least[at] = shortened(plan, least, least[at], modulus)[0]
+    return least
+
+
+def neat(plan, chain, names, name, numbers):
     """What the chain leaves of a stair, its lead number above 0, and the powers of steps that make it."""
-    numbers, powers = divided(plan, chain, numbers, modulus)
+    numbers, powers = divided(plan, chain, numbers)
     pairs = [(names[at], -many) for at, many in reversed(powers)] + [(name, 1)]
     lead = lead_at(numbers)
     if lead is not None and numbers[lead] < 0:
-        numbers = undone(plan, numbers, modulus)
+        numbers = undone(plan, numbers)
         pairs = [(step, -many) for step, many in reversed(pairs)]
-    numbers, powers = shortened(plan, chain, numbers, modulus)
+    numbers, powers = shortened(plan, chain, numbers)
     return numbers, tuple(pairs + [(names[at], many) for at, many in powers])
 
 
-def mixed(plan, one, other, lead, modulus):
+def mixed(plan, one, other, lead):
     """Two products of powers of two stairs with this lead, as (entries, power of one, power of the other).
 
     The first one has the greatest common divisor as its lead number; the second one leads further behind. What both
     stairs make, these two make as well: they do so but for brackets, and with the brackets of what they make.
     """
-    divisor, share, rest = shared_divisor(one[lead], other[lead])
+    divisor, share, other_share = shared_divisor(one[lead], other[lead])
     found = []
-    for first, second in ((share, rest), (-(other[lead] // divisor), one[lead] // divisor)):
-        made = times(plan, raised(plan, one, first, modulus), raised(plan, other, second, modulus), modulus)
+    for first, second in ((share, other_share), (-(other[lead] // divisor), one[lead] // divisor)):
+        made = times(plan, raised(plan, one, first), raised(plan, other, second))
         found.append((made, first, second))
     return found
 
 
-def placed(plan, chain, names, first, numbers, step, modulus):
+def placed(plan, chain, names, first, numbers, step):
     """A chain with a further stair, the worth of a step: its members, their names, the steps, and the changed places.
 
     The first of the steps is to get the name `first`. The brackets with what is new are not looked at.
@@ -76,7 +90,7 @@ def placed(plan, chain, names, first, numbers, step, modulus):
     changed = []
     while True:
         name = first + len(steps)
-        numbers, powers = neat(plan, found, called, name, numbers, modulus)
+        numbers, powers = neat(plan, found, called, name, numbers)
         lead = lead_at(numbers)
         if lead is None:
             return found, called, steps, changed
@@ -89,14 +103,14 @@ def placed(plan, chain, names, first, numbers, step, modulus):
             found[lead] = numbers
             called[lead] = name
             return found, called, steps, changed
-        (fresh, one, other), (numbers, back, forth) = mixed(plan, found[lead], numbers, lead, modulus)
+        (fresh, one, other), (numbers, back, forth) = mixed(plan, found[lead], numbers, lead)
         step = ("product", ((called[lead], back), (name, forth)))
         steps.append(("product", ((called[lead], one), (name, other))))
         found[lead] = fresh
         called[lead] = name + 1
 
 
-def tidied(plan, chain, names, first, modulus):
+def tidied(plan, chain, names, first):
     """The least chain for a closed one, its names, and the steps, from the name `first` on, that lead to it."""
     least = list(chain)
     called = list(names)
@@ -104,7 +118,7 @@ def tidied(plan, chain, names, first, modulus):
     for at in reversed(range(len(plan))):
         if least[at] is None:
             continue
-        numbers, powers = shortened(plan, least, least[at], modulus)
+        numbers, powers = shortened(plan, least, least[at])
         if powers:
             steps.append(("product", tuple([(called[at], 1)] + [(called[place], many) for place, many in powers])))
             least[at] = numbers
@@ -112,10 +126,22 @@ def tidied(plan, chain, names, first, modulus):
     return least, called, steps
 
 
-def open_pairs(chain, changed, modulus):
+def reaches(plan):
+    """For each index the last one for which stairs that lead at these two can have a bracket other than one."""
+    found = [0 for _ in plan]
+    for low, uses in enumerate(plan):
+        for _, high in uses:
+            found[min(low, high)] = max(found[min(low, high)], low, high)
+    for at in reversed(range(len(plan) - 1)):
+        found[at] = max(found[at], found[at + 1])
+    return found
+
+
+def open_pairs(reach, chain, changed):
     """The pairs of indices, the greater one first, with a changed one, of chain members with a bracket to look at."""
-    there = [at for at, member in enumerate(chain) if member is not None and member[at] != modulus]
-    return [(high, low) for low in there for high in there if low < high and (low in changed or high in changed)]
+    there = [at for at, member in enumerate(chain) if member is not None]
+    return [(high, low) for low in there for high in there
+            if low < high <= reach[low] and (low in changed or high in changed)]
 
 
 def by_leads(makers):
@@ -123,13 +149,14 @@ def by_leads(makers):
     return sorted([at for at, numbers in enumerate(makers) if any(numbers)], key=lambda at: lead_at(makers[at]))
 
 
-def grown(plan, makers, modulus=0):
+def grown(plan, makers):
     """The least chain of what some stairs make, the names of its members, and steps from the makers.
 
     A name is the index of the step whose worth the member is.
     """
-    chain = [None] * len(plan)
-    names = [None] * len(plan)
+    reach = reaches(plan)
+    chain = [None for _ in plan]
+    names = [None for _ in plan]
     steps = []
     pairs = []
     waiting = list(by_leads(makers))
@@ -137,17 +164,17 @@ def grown(plan, makers, modulus=0):
         # What stands furthest behind comes first: it keeps the entries of all that follows small.
         if pairs:
             high, low = pairs.pop()
-            numbers = bracket(plan, chain[low], chain[high], modulus)
+            numbers = bracket(plan, chain[low], chain[high])
             step = ("bracket", names[low], names[high])
         else:
             index = waiting.pop()
             numbers, step = makers[index], ("maker", index)
-        found, called, more, changed = placed(plan, chain, names, len(steps), numbers, step, modulus)
+        found, called, more, changed = placed(plan, chain, names, len(steps), numbers, step)
         if changed:
             steps.extend(more)
-            least, called, more = tidied(plan, found, called, len(steps), modulus)
+            least, called, more = tidied(plan, found, called, len(steps))
             steps.extend(more)
             chain = least
             names = called
-            pairs = sorted(set(pairs + open_pairs(chain, changed, modulus)))
+            pairs = sorted(set(pairs + open_pairs(reach, chain, changed)))
     return chain, names, steps

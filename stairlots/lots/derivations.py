@@ -4,7 +4,7 @@ from stairlots.base.shapes import check_shape
 from stairlots.base.wholes import is_index, is_whole
 from stairlots.errors import InvalidOperation, InvalidStair, TooMany
 from stairlots.lots.chains import divided, grown
-from stairlots.lots.lots import check_lot
+from stairlots.lots.lots import check_lot, plan_for
 from stairlots.stair.stairs import are_stairs, check_stair, stair_with
 from stairlots.stair.tables import bracket, ones, plan_of, raised, times
 
@@ -20,14 +20,15 @@ def worth(shape, stairs, steps):
         raise InvalidStair("steps start from a tuple of at most sixteen stairs of the shape")
     if not are_steps(len(stairs), steps):
         raise InvalidOperation("these are no steps from so many stairs")
-    return stair_with(shape, worth_of(plan_of(shape), [stair.numbers for stair in stairs], steps))
+    plan = plan_of(shape)
+    return stair_with(shape, plan, worth_of(plan, [stair.numbers for stair in stairs], steps))
 
 
 def derivation(lot, stair):
     """Any steps from the makers of the lot whose worth is the stair."""
     check_lot(lot)
     check_stair(lot.shape, stair)
-    plan = plan_of(lot.shape)
+    plan = plan_for(lot)
     chain, names, steps = grown(plan, [maker.numbers for maker in lot.makers])
     left, powers = divided(plan, chain, stair.numbers)
     if any(left):
@@ -47,7 +48,7 @@ def is_derivation(lot, stair, value):
     check_stair(lot.shape, stair)
     if not are_steps(len(lot.makers), value):
         return False
-    return worth_of(plan_of(lot.shape), [maker.numbers for maker in lot.makers], value) == stair.numbers
+    return worth_of(plan_for(lot), [maker.numbers for maker in lot.makers], value) == stair.numbers
 
 
 def are_steps(many, value):

@@ -3,12 +3,14 @@
 from stairlots.base.shapes import check_shape, places
 from stairlots.base.wholes import is_integer
 from stairlots.errors import InvalidLot, InvalidOperation, InvalidStair
-from stairlots.lots.chains import divided, grown
-from stairlots.lots.commons import common_chain
+from stairlots.lots.chains import divided, grown, has_member
+from stairlots.lots.kernels import common_chain
 from stairlots.stair.stairs import are_stairs, check_stair, is_stair, stair_with
 from stairlots.stair.tables import lone, ones, plan_of, raised, times
 
 MAX_MAKERS = 6
+
+_LEAST_SHAPE = (2,)
 
 
 class Lot:
@@ -18,18 +20,18 @@ class Lot:
         check_shape(shape)
         if not are_stairs(shape, makers, MAX_MAKERS):
             raise InvalidStair("the makers are a tuple of at most six stairs of the shape")
-        plan = plan_of(shape)
         self._shape = shape
+        self._plan = plan_of(shape)
         self._makers = makers
-        self._rows = tuple(grown(plan, [maker.numbers for maker in makers])[0])
-        self._chain = members_of(shape, self._rows)
+        self._rows = tuple(grown(self._plan, [maker.numbers for maker in makers])[0])
+        self._chain = members_of(shape, self._plan, self._rows)
 
     @classmethod
     def every(cls, shape):
         """The lot of all stairs of a shape."""
         check_shape(shape)
         plan = plan_of(shape)
-        return lot_with(shape, tuple([lone(plan, at, 1) for at in range(len(plan))]))
+        return lot_with(shape, plan, [lone(plan, at, 1) for at in range(len(plan))])
 
     @property
     def shape(self):
@@ -53,12 +55,12 @@ class Lot:
         return {place: lead for place, lead in zip(places(self._shape), leads) if lead is not None}
 
     def __contains__(self, value):
-        return is_stair(self._shape, value) and has_numbers(self, value.numbers)
+        return is_stair(self._shape, value) and has_member(self._plan, self._rows, value.numbers)
 
     def exponents(self, stair):
         """The exponents with which the chain members make a member."""
         check_stair(self._shape, stair)
-        left, powers = divided(plan_of(self._shape), self._rows, stair.numbers)
+        left, powers = divided(self._plan, self._rows, stair.numbers)
         if any(left):
             raise InvalidOperation("this stair is no member")
         found = dict(powers)
@@ -70,16 +72,15 @@ class Lot:
             raise InvalidOperation("there is one exponent for each chain member")
         if not all([is_integer(number) for number in exponents]):
             raise InvalidOperation("exponents are integers")
-        plan = plan_of(self._shape)
-        found = ones(plan)
+        found = ones(self._plan)
         for one, number in zip(self._chain, exponents):
-            found = times(plan, found, raised(plan, one.numbers, number))
-        return stair_with(self._shape, found)
+            found = times(self._plan, found, raised(self._plan, one.numbers, number))
+        return stair_with(self._shape, self._plan, found)
 
     def is_within(self, other):
         """Whether all members are members of the other lot, too."""
         check_lot_of(self._shape, other)
-        return all([has_numbers(other, one.numbers) for one in self._chain])
+        return all([has_member(self._plan, other._rows, one.numbers) for one in self._chain])
 
     def index_in(self, other):
         """The index of this lot in the other one, or None."""
@@ -99,13 +100,13 @@ class Lot:
             raise TypeError("only lots are joined")
         check_lot_of(self._shape, other)
         makers = [one.numbers for one in self._chain + other._chain]
-        return lot_with(self._shape, tuple(grown(plan_of(self._shape), makers)[0]))
+        return lot_with(self._shape, self._plan, grown(self._plan, makers)[0])
 
     def __and__(self, other):
         if not isinstance(other, Lot):
             raise TypeError("only lots have a common part")
         check_lot_of(self._shape, other)
-        return lot_with(self._shape, common_chain(plan_of(self._shape), self._rows, other._rows))
+        return lot_with(self._shape, self._plan, common_chain(self._plan, self._rows, other._rows))
 
     def __eq__(self, other):
         return isinstance(other, Lot) and self._shape == other._shape and self._rows == other._rows
@@ -123,23 +124,31 @@ class Lot:
         return f"lot of {len(self._chain)} in {self._shape}"
 
 
-def members_of(shape, rows):
+def members_of(shape, plan, rows):
     """The stairs of a chain, from the entries at each place or None."""
-    return tuple([stair_with(shape, row) for row in rows if row is not None])
+    return tuple([stair_with(shape, plan, row) for row in rows if row is not None])
 
 
-def lot_with(shape, rows):
-    """The lot with this least chain, which are its makers as well."""
-    made = Lot(shape, ())
-    made._rows = rows
-    made._chain = members_of(shape, rows)
+def lot_with(shape, plan, rows):
+    """The lot of a shape, whose plan is passed along, with this least chain, which are its makers as well."""
+    # Nothing that is passed needs a check here: the least lot is made, and gets the rest.
+    made = Lot(_LEAST_SHAPE, ())
+    made._shape = shape
+    made._plan = plan
+    made._rows = tuple(rows)
+    made._chain = members_of(shape, plan, rows)
     made._makers = made._chain
     return made
 
 
-def has_numbers(lot, numbers):
-    """Whether the stair with these entries is a member."""
-    return not any(divided(plan_of(lot._shape), lot._rows, numbers)[0])
+def plan_for(lot):
+    """The plan of the shape of a lot."""
+    return lot._plan
+
+
+def rows_of(lot):
+    """The least chain of a lot: for each index of a place the entries of the member that leads there, or None."""
+    return lot._rows
 
 
 def check_lot(value):

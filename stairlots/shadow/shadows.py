@@ -1,12 +1,14 @@
 """Shadows: what is left of a lot when all entries are taken modulo an integer."""
 
 from stairlots.base.shapes import places
-from stairlots.base.wholes import is_whole, power_of_ten
+from stairlots.base.wholes import is_modulus
 from stairlots.errors import InvalidNumber, TooMany
-from stairlots.lots.chains import divided, grown
-from stairlots.lots.lots import check_lot, members_of
+from stairlots.lots.chains import divided, least_rows
+from stairlots.lots.kernels import parted
+from stairlots.lots.lots import check_lot, members_of, plan_for, rows_of
+from stairlots.lots.walks import rests_of
 from stairlots.stair.stairs import is_stair, stair_with
-from stairlots.stair.tables import lone, ones, plan_of, raised, rest, times
+from stairlots.stair.tables import ones, raised, rest, times
 
 MAX_SHADOW_DIGITS = 4000
 MAX_MEMBERS = 5000
@@ -21,8 +23,9 @@ class Shadow:
             raise InvalidNumber(modulus)
         self._lot = lot
         self._modulus = modulus
-        self._rows = shadow_rows(lot, modulus)
-        self._chain = members_of(lot.shape, self._rows)
+        self._plan = plan_for(lot)
+        self._rows = tuple(shadow_rows(self._plan, rows_of(lot), modulus))
+        self._chain = members_of(lot.shape, self._plan, self._rows)
 
     @property
     def lot(self):
@@ -58,14 +61,14 @@ class Shadow:
         if not is_stair(self._lot.shape, value):
             return False
         numbers = rest(value.numbers, self._modulus)
-        return not any(divided(plan_of(self._lot.shape), self._rows, numbers, self._modulus)[0])
+        return not any(divided(self._plan, self._rows, numbers, self._modulus)[0])
 
     def members(self):
         """All members, as rests, ascending by their exponents."""
         if self.size > MAX_MEMBERS:
             raise TooMany(MAX_MEMBERS)
         for numbers in all_rests(self):
-            yield stair_with(self._lot.shape, numbers)
+            yield stair_with(self._lot.shape, self._plan, numbers)
 
     def __eq__(self, other):
         return isinstance(other, Shadow) and key_of(self) == key_of(other)
@@ -77,27 +80,24 @@ class Shadow:
         return f"shadow of {len(self._chain)} in {self._lot.shape} modulo {self._modulus}"
 
 
-def is_modulus(value):
-    """Whether the value is an integer of at least 2 with at most 4000 digits."""
-    return is_whole(value) and 2 <= value < power_of_ten(MAX_SHADOW_DIGITS)
-
-
 def key_of(shadow):
     """What two shadows share if they have the same modulus and the same members."""
     return shadow._modulus, shadow._lot.shape, shadow._rows
 
 
-def shadow_rows(lot, modulus):
-    """The entries of the chain members of the shadow, for each place or None.
+def shadow_rows(plan, chain, modulus):
+    """The chain of the shadow of a lot with this chain: for each index of a place the entries, or None.
 
-    All stairs whose entries are multiples of the modulus are taken in beside the lot; the chain of both has a lead at
-    each place, and those that are the modulus itself are none of the shadow.
+    Place by place those members are kept whose rests are 0 up to there: of these, the entry of a product is the sum of
+    the entries, and the one with the least rest above 0 belongs to the chain of the shadow.
     """
-    plan = plan_of(lot.shape)
-    makers = [rest(one.numbers, modulus) for one in lot.chain]
-    multiples = [lone(plan, at, modulus) for at in range(len(plan))]
-    chain = grown(plan, makers + multiples, modulus)[0]
-    return tuple([None if row[at] == modulus else row for at, row in enumerate(chain)])
+    found = []
+    rows = rests_of(chain, modulus)
+    for at in range(len(plan)):
+        values = [0 if row is None else row[at] for row in rows]
+        rows, holder, least = parted(plan, rows, values, modulus, modulus)
+        found.append(None if least == modulus else holder)
+    return least_rows(plan, found, modulus)
 
 
 def powers_of(plan, one, many, modulus):
@@ -107,7 +107,7 @@ def powers_of(plan, one, many, modulus):
 
 def all_rests(shadow):
     """The entries of all members, ascending by their exponents."""
-    plan = plan_of(shadow._lot.shape)
+    plan = shadow._plan
     modulus = shadow._modulus
     found = [ones(plan)]
     for at, row in enumerate(shadow._rows):

@@ -33,7 +33,7 @@ def from_singles(shape, numbers, *, backwards=False):
     found = ones(plan)
     for at, number in enumerate(numbers):
         found = joined(plan, found, lone(plan, at, number), backwards)
-    return stair_with(shape, found)
+    return stair_with(shape, plan, found)
 
 
 def check_backwards(backwards):

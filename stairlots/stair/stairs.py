@@ -3,7 +3,9 @@
 from stairlots.base.shapes import MAX_BOXES, check_shape, is_place, is_shape, places
 from stairlots.base.wholes import is_index, is_integer, read_integer
 from stairlots.errors import InvalidNumber, InvalidStair, ParseError, TooMany
-from stairlots.stair.tables import bracket, lead_at, plan_of, raised, times, undone
+from stairlots.stair.tables import bracket, lead_at, led, plan_of, raised, times, undone
+
+_LEAST_SHAPE = (2,)
 
 
 class Stair:
@@ -14,6 +16,7 @@ class Stair:
         if not are_entries(shape, entries):
             raise InvalidStair("these are no entries of the shape")
         self._shape = shape
+        self._plan = plan_of(shape)
         self._numbers = tuple([entries.get(place, 0) for place in places(shape)])
 
     @classmethod
@@ -83,33 +86,34 @@ class Stair:
         if not isinstance(other, Stair):
             return NotImplemented
         check_stair(self._shape, other)
-        return stair_with(self._shape, times(plan_of(self._shape), self._numbers, other._numbers))
+        return stair_with(self._shape, self._plan, times(self._plan, self._numbers, other._numbers))
 
     def __invert__(self):
-        return stair_with(self._shape, undone(plan_of(self._shape), self._numbers))
+        return stair_with(self._shape, self._plan, undone(self._plan, self._numbers))
 
     def power(self, number):
         """As many times the stair; below 0, what undoes it."""
         if not is_integer(number):
             raise InvalidNumber(number)
-        return stair_with(self._shape, raised(plan_of(self._shape), self._numbers, number))
+        return stair_with(self._shape, self._plan, raised(self._plan, self._numbers, number))
 
     def bracket(self, other):
         """The bracket of both: self * other * ~self * ~other."""
         check_stair(self._shape, other)
-        return stair_with(self._shape, bracket(plan_of(self._shape), self._numbers, other._numbers))
+        return stair_with(self._shape, self._plan, bracket(self._plan, self._numbers, other._numbers))
 
     def led(self, other):
         """The stair to which the other one leads it: other * self * ~other."""
         check_stair(self._shape, other)
-        return other * self * ~other
+        return stair_with(self._shape, self._plan, led(self._plan, self._numbers, other._numbers))
 
     def block(self, index):
         """The stair with this block alone."""
         if not is_index(index, len(self._shape)):
             raise InvalidNumber(index)
         numbers = [number for place, number in zip(places(self._shape), self._numbers) if place[0] == index]
-        return stair_with((self._shape[index],), tuple(numbers))
+        shape = (self._shape[index],)
+        return stair_with(shape, plan_of(shape), tuple(numbers))
 
     def beside(self, other):
         """The stair with the blocks of both."""
@@ -121,7 +125,7 @@ class Stair:
         found = dict(zip(places(self._shape), self._numbers))
         for (block, row, column), number in zip(places(other._shape), other._numbers):
             found[len(self._shape) + block, row, column] = number
-        return stair_with(shape, tuple([found[place] for place in places(shape)]))
+        return stair_with(shape, plan_of(shape), tuple([found[place] for place in places(shape)]))
 
     def __eq__(self, other):
         return isinstance(other, Stair) and self._shape == other._shape and self._numbers == other._numbers
@@ -136,9 +140,12 @@ class Stair:
         return "; ".join([text_of(table) for table in self.tables])
 
 
-def stair_with(shape, numbers):
-    """The stair with these entries, of any length, in the order of the places."""
-    made = Stair(shape, {})
+def stair_with(shape, plan, numbers):
+    """The stair of a shape, whose plan is passed along, with these entries of any length, in order."""
+    # Nothing that is passed needs a check here: the least stair is made, and gets the rest.
+    made = Stair(_LEAST_SHAPE, {})
+    made._shape = shape
+    made._plan = plan
     made._numbers = numbers
     return made
 

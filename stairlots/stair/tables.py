@@ -1,28 +1,45 @@
 """The arithmetic of stairs, as tuples of their entries in the order of the places.
 
-A plan tells which entries meet in a product. With a modulus other than 0 all results are remainders.
+A plan has for each place (b, i, k), in order, the pairs of the indices of (b, i, j) and (b, k, j), for each j behind k:
+in a product the first one of them gets what stands at the place times what stands at the second one. With a modulus
+other than 0 all entries that are passed or returned are remainders.
 """
 
 from stairlots.base.shapes import places
 
 
 def plan_of(shape):
-    """For each place (b, i, j), in order, the indices of (b, i, k) and (b, k, j) for each k between."""
+    """The plan of a shape."""
     order = places(shape)
     at = {place: index for index, place in enumerate(order)}
-    return tuple([tuple([(at[b, i, k], at[b, k, j]) for k in range(i + 1, j)]) for b, i, j in order])
+    return tuple([tuple([(at[b, i, j], at[b, k, j]) for j in range(k + 1, shape[b])]) for b, i, k in order])
+
+
+def beside(plan, other):
+    """The plan of stairs of two plans side by side: the entries of the first one, then those of the second one."""
+    many = len(plan)
+    return plan + tuple([tuple([(at + many, high + many) for at, high in uses]) for uses in other])
+
+
+def pairs_between(plan):
+    """For each place (b, i, j), in order, the indices of (b, i, k) and (b, k, j) for each k between."""
+    found = [[] for _ in plan]
+    for low, uses in enumerate(plan):
+        for at, high in uses:
+            found[at].append((low, high))
+    return found
 
 
 def rest(numbers, modulus):
     """The remainders of the entries; the entries themselves for the modulus 0."""
     if modulus == 0:
-        return numbers
+        return tuple(numbers)
     return tuple([number % modulus for number in numbers])
 
 
 def ones(plan):
     """The entries of one."""
-    return tuple([0] * len(plan))
+    return tuple([0 for _ in plan])
 
 
 def lone(plan, at, number):
@@ -38,42 +55,73 @@ def lead_at(numbers):
     return None
 
 
-def between(pairs, one, other):
-    """What a place gets in a product from the places between."""
-    return sum([one[low] * other[high] for low, high in pairs])
-
-
 def times(plan, one, other, modulus=0):
     """The product."""
-    found = [a + b + between(pairs, one, other) for a, b, pairs in zip(one, other, plan)]
-    return rest(tuple(found), modulus)
+    found = [a + b for a, b in zip(one, other)]
+    for number, uses in zip(one, plan):
+        if number:
+            for at, high in uses:
+                found[at] = found[at] + number * other[high]
+    return rest(found, modulus)
+
+
+def times_between(plan, one, other, modulus):
+    """The product of the parts beside the ones."""
+    found = [0 for _ in plan]
+    for number, uses in zip(one, plan):
+        if number:
+            for at, high in uses:
+                found[at] = found[at] + number * other[high]
+    return rest(found, modulus)
+
+
+def divided_by(plan, numbers, other, modulus):
+    """The stair of which the product with the other one has these numbers, less the entries of the other one."""
+    found = list(numbers)
+    for low, uses in enumerate(plan):
+        if modulus:
+            found[low] = found[low] % modulus
+        number = found[low]
+        if number:
+            for at, high in uses:
+                found[at] = found[at] - number * other[high]
+    return tuple(found)
 
 
 def undone(plan, numbers, modulus=0):
     """What undoes it."""
-    found = []
-    for number, pairs in zip(numbers, plan):
-        entry = -number - between(pairs, numbers, found)
-        found.append(entry % modulus if modulus else entry)
-    return tuple(found)
-
-
-def raised(plan, numbers, many, modulus=0):
-    """The power, by any integer: the sum of choose(many, k) times the k-th power of the part beside the ones."""
-    found = [0] * len(plan)
-    part = numbers
-    share = many
-    taken = 1
-    while any(part):
-        found = [number + share * entry for number, entry in zip(found, part)]
-        part = rest(tuple([between(pairs, part, numbers) for pairs in plan]), modulus)
-        share = share * (many - taken) // (taken + 1)
-        taken += 1
-    return rest(tuple(found), modulus)
+    return divided_by(plan, [-number for number in numbers], numbers, modulus)
 
 
 def bracket(plan, one, other, modulus=0):
     """The product of both less what the opposite product does."""
     there = times(plan, one, other, modulus)
     back = times(plan, other, one, modulus)
-    return times(plan, there, undone(plan, back, modulus), modulus)
+    return divided_by(plan, [a - b for a, b in zip(there, back)], back, modulus)
+
+
+def led(plan, numbers, other, modulus=0):
+    """The stair to which the other one leads it."""
+    there = times(plan, other, numbers, modulus)
+    return divided_by(plan, [a - b for a, b in zip(there, other)], other, modulus)
+
+
+def raised(plan, numbers, many, modulus=0):
+    """The power, by any integer: the sum of choose(many, k) times the k-th power of the part beside the ones."""
+    if many == 1:
+        return numbers
+    if many == -1:
+        return undone(plan, numbers, modulus)
+    found = [many * number for number in numbers]
+    part = numbers
+    share = many
+    taken = 1
+    while share:
+        part = times_between(plan, part, numbers, modulus)
+        if not any(part):
+            break
+        share = share * (many - taken) // (taken + 1)
+        taken += 1
+        factor = share % modulus if modulus else share
+        found = [number + factor * entry for number, entry in zip(found, part)]
+    return rest(found, modulus)
