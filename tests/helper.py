@@ -6,6 +6,8 @@ from stairlots.base.ratios import Ratio
 from stairlots.base.shapes import places
 from stairlots.errors import InvalidShape, ParseError
 from stairlots.lots.lots import Lot
+from stairlots.maps.maps import LotMap
+from stairlots.normal.rests import Rest
 from stairlots.shadow.shadows import Shadow
 from stairlots.stair.stairs import Stair
 
@@ -30,6 +32,7 @@ OTHERS = (
     ((((((((),),),),),),),), [], [3], [[[]]], [A], {}, {1: 2}, {(0, 0, 1): 1}, {"a": [{}]}, (None,), ("", []), (A, None),
     Ratio(1, 2), Ratio(3), A, Stair.one((2,)), Stair.one((2, 3)), ALL3, Lot((2,), ()), Shadow(ALL3, 2),
     (A, B), [A, B], (Ratio(1),), (Stair.one((2,)),), (A, Stair.one((4,))), InvalidShape("no"), ParseError(0),
+    Rest(ALL3, Lot((3,), (C,))), LotMap(ALL3, (A.power(5), B)), (ALL3,), ("led", ALL3), ("map", LotMap(ALL3, (A, B))),
 )
 VALUES = NUMBERS + OTHERS
 

@@ -119,6 +119,10 @@ class LanguageTest(unittest.TestCase):
                 for name in (getattr(node, "id", ""), getattr(node, "attr", ""), getattr(node, "arg", ""),
                              getattr(node, "name", "")):
                     self.assertNotRegex(name or "", BARRED_WORDS)
+                if isinstance(node, ast.Compare):
+                    for sign, right in zip(node.ops, node.comparators):
+                        if isinstance(sign, (ast.Is, ast.IsNot)):
+                            self.assertIn(getattr(right, "value", right), (None, True, False))
                 if isinstance(node, ast.AugAssign):
                     self.assertIsInstance(node.target, ast.Name)
                     self.assertIsInstance(node.value, ast.Constant)
@@ -196,6 +200,8 @@ class LanguageTest(unittest.TestCase):
             "Lot": "every shape makers chain leads __contains__ exponents member is_within __or__ __and__ index_in __eq__ "
                    "__len__ __bool__ __iter__ __str__",
             "Shadow": "lot modulus chain leads size __contains__ members __len__ __eq__ __str__",
+            "Rest": "lot normal size kind least is_same order members are_alike alike_paper is_alike_paper __eq__ __str__",
+            "LotMap": "lot images target kernel image graph __call__ forth back behind __eq__ __str__",
         }
         found = {}
         for path, text, tree in self.trees():

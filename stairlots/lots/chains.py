@@ -149,10 +149,17 @@ def by_leads(makers):
     return sorted([at for at, numbers in enumerate(makers) if any(numbers)], key=lambda at: lead_at(makers[at]))
 
 
-def grown(plan, makers):
+def led_pairs(leaders, changed):
+    """The pairs of a changed index and, below 0, the place of a leader counted from behind the first one."""
+    return [(at, -1 - index) for at in changed for index in range(len(leaders))]
+
+
+def grown(plan, makers, leaders=(), stop=None):
     """The least chain of what some stairs make, the names of its members, and steps from the makers.
 
-    A name is the index of the step whose worth the member is.
+    A name is the index of the step whose worth the member is. With leaders, further stairs, the chain is that of the
+    least lot that these lead into itself, and the steps are of no use. As soon as a member leads at the index `stop` or
+    behind it, all that there is so far is returned.
     """
     reach = reaches(plan)
     chain = [None for _ in plan]
@@ -164,8 +171,8 @@ def grown(plan, makers):
         # What stands furthest behind comes first: it keeps the entries of all that follows small.
         if pairs:
             high, low = pairs.pop()
-            numbers = bracket(plan, chain[low], chain[high])
-            step = ("bracket", names[low], names[high])
+            numbers = bracket(plan, leaders[-1 - low] if low < 0 else chain[low], chain[high])
+            step = ("bracket", None if low < 0 else names[low], names[high])
         else:
             index = waiting.pop()
             numbers, step = makers[index], ("maker", index)
@@ -176,5 +183,7 @@ def grown(plan, makers):
             steps.extend(more)
             chain = least
             names = called
-            pairs = sorted(set(pairs + open_pairs(reach, chain, changed)))
+            if stop is not None and changed[-1] >= stop:
+                break
+            pairs = sorted(set(pairs + open_pairs(reach, chain, changed) + led_pairs(leaders, changed)))
     return chain, names, steps

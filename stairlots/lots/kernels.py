@@ -58,9 +58,9 @@ def narrowed(plan, chain, one, other, many):
     return chain
 
 
-def pairs_of(one, other):
-    """The chain of all pairs, the stairs of two lots side by side, from the chains of both."""
-    ahead, behind = ones(one), ones(other)
+def pairs_of(plan, one, other_plan, other):
+    """The chain of all pairs, side by side, of members of two lots with these plans and chains."""
+    ahead, behind = ones(plan), ones(other_plan)
     firsts = [None if row is None else row + behind for row in one]
     return firsts + [None if row is None else ahead + row for row in other]
 
@@ -68,5 +68,5 @@ def pairs_of(one, other):
 def common_chain(plan, one, other):
     """The least chain of the common part of two lots with these least chains."""
     size = len(plan)
-    chain = narrowed(beside(plan, plan), pairs_of(one, other), 0, size, size)
+    chain = narrowed(beside(plan, plan), pairs_of(plan, one, plan, other), 0, size, size)
     return tuple([None if row is None else row[:size] for row in chain[:size]])

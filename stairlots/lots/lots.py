@@ -151,6 +151,11 @@ def rows_of(lot):
     return lot._rows
 
 
+def makers_of(lot):
+    """The entries of a few stairs that make a lot: its makers, or its chain if this one is shorter."""
+    return [one.numbers for one in (lot._makers if len(lot._makers) < len(lot._chain) else lot._chain)]
+
+
 def check_lot(value):
     """InvalidLot unless the value is a lot."""
     if not isinstance(value, Lot):

@@ -95,6 +95,8 @@ def undone(plan, numbers, modulus=0):
 
 def bracket(plan, one, other, modulus=0):
     """The product of both less what the opposite product does."""
+    if not any(plan):
+        return ones(plan)
     there = times(plan, one, other, modulus)
     back = times(plan, other, one, modulus)
     return divided_by(plan, [a - b for a, b in zip(there, back)], back, modulus)
@@ -113,6 +115,8 @@ def raised(plan, numbers, many, modulus=0):
     if many == -1:
         return undone(plan, numbers, modulus)
     found = [many * number for number in numbers]
+    if not any(plan):
+        return rest(found, modulus)
     part = numbers
     share = many
     taken = 1

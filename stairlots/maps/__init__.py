@@ -1,0 +1,1 @@
+"""Maps from lots to stairs."""

@@ -1,0 +1,1 @@
+"""Normal lots, what is left by them, and lots of brackets."""
