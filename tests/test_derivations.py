@@ -96,6 +96,28 @@ class WorthTest(unittest.TestCase):
         self.assertEqual(worth((3,), (A,), steps), A.power(3000))
         self.assertRaises(InvalidOperation, worth, (3,), (A,), steps + (("maker", 0),))
 
+    def test_many_products(self):
+        x = Stair((2,), {(0, 0, 1): 1})
+        steps = (("maker", 0),) + (("product", ((0, 3), (0, -3))),) * 2999
+        self.assertEqual(worth((2,), (x,), steps), Stair.one((2,)))
+        self.assertIs(is_derivation(Lot((2,), (x,)), Stair.one((2,)), steps), True)
+        self.assertIs(is_derivation(Lot((2,), (x,)), x, steps), False)
+        for shape in ((2,), (3,), (2, 2), (6, 2)):
+            x = made_up_stair(random.Random(6), shape, 3)
+            steps = (("maker", 0),) + tuple(("product", ((0, at), (at % 7, 3), (0, 3))) for at in range(7, 40))
+            self.assertEqual(worth(shape, (x,), (("maker", 0),) * 7 + steps[1:]), x.power(45))
+            self.assertEqual(worth(shape, (x,), (("maker", 0),) * 7 + steps[1:]),
+                             worth_by_stairs(shape, (x,), (("maker", 0),) * 7 + steps[1:]))
+
+    def test_powers_that_come_again(self):
+        # More powers than are kept: those that are not kept are made anew.
+        with unittest.mock.patch.object(derivations, "_MOST_POWERS", 2):
+            source = random.Random(7)
+            stairs = tuple(made_up_stair(source, (4,), 3) for _ in range(2))
+            for _ in range(20):
+                steps = made_up_steps(source, 2, 12)
+                self.assertEqual(worth((4,), stairs, steps), worth_by_stairs((4,), stairs, steps))
+
     def test_wrong_values(self):
         for value in VALUES:
             if not is_shape(value):

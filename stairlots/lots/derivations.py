@@ -11,6 +11,7 @@ from stairlots.stair.tables import bracket, ones, plan_of, raised, times
 MAX_STEPS = 3000
 
 _MOST_STAIRS = 16
+_MOST_POWERS = 20000
 
 
 def worth(shape, stairs, steps):
@@ -73,30 +74,40 @@ def are_pairs(ahead, value):
     """Whether the value is a tuple of pairs of the index of one of so many steps and an integer."""
     if not isinstance(value, tuple):
         return False
-    if not all([isinstance(pair, tuple) and len(pair) == 2 for pair in value]):
-        return False
-    return all([is_index(index, ahead) and is_whole(many) for index, many in value])
+    # There can be a great many pairs: what an index and an integer are is asked here, without further calls.
+    for pair in value:
+        if not isinstance(pair, tuple) or len(pair) != 2:
+            return False
+        index, many = pair
+        if not isinstance(index, int) or not isinstance(many, int) or not 0 <= index < ahead:
+            return False
+        if isinstance(index, bool) or isinstance(many, bool):
+            return False
+    return True
 
 
 def worth_of(plan, stairs, steps):
     """The entries of the worth of steps from stairs with these entries."""
     worths = []
+    powers = {}
     for step in steps:
         if step[0] == "maker":
             worths.append(stairs[step[1]])
-        elif step[0] == "bracket":
+            continue
+        if step[0] == "bracket":
             worths.append(bracket(plan, worths[step[1]], worths[step[2]]))
-        else:
-            worths.append(product_of(plan, worths, step[1]))
+            continue
+        found = None
+        for pair in step[1]:
+            power = powers.get(pair)
+            if power is None:
+                power = raised(plan, worths[pair[0]], pair[1])
+                # The same powers often come again; not more are kept than are sure to find room.
+                if len(powers) < _MOST_POWERS:
+                    powers[pair] = power
+            found = power if found is None else times(plan, found, power)
+        worths.append(ones(plan) if found is None else found)
     return worths[-1] if worths else ones(plan)
-
-
-def product_of(plan, worths, pairs):
-    """The entries of the product of powers of some worths."""
-    found = ones(plan)
-    for index, many in pairs:
-        found = times(plan, found, raised(plan, worths[index], many))
-    return found
 
 
 def sources(step):
