@@ -11,8 +11,7 @@ from stairlots.shadow.bars import bar, is_bar
 from stairlots.shadow.shadows import Shadow
 from stairlots.stair.stairs import Stair
 from tests.helper import (A, ALL3, C, EVEN, LONGEST, NUMBERS, OTHERS, SHAPES, SLANT, T, U, VALUES, long_single,
-                          made_up_member, made_up_stair, rest_of, sample_lots, sample_stair, small_cases, wrong_lots,
-                          wrong_members)
+                          made_up_member, rest_of, sample_lots, sample_stair, small_cases, wrong_members)
 from tests.test_shadows import first_number
 
 PLACE = (0, 0, 1)
@@ -102,7 +101,6 @@ class JudgingTest(unittest.TestCase):
             for value in wrong_members((3,)):
                 self.assertRaises(InvalidStair, call, EVEN, value)
             self.assertRaises(InvalidStair, call, Lot((2, 3), ()), Stair.one((3, 2)))
-        self.assertTrue(wrong_lots((3,)))
 
 
 class FindingTest(unittest.TestCase):

@@ -12,8 +12,8 @@ from stairlots.lots.sums import kernel
 from stairlots.stair.stairs import Stair
 from stairlots.way import numbers as module
 from stairlots.way.numbers import (are_led, done, is_way_paper, least_numbers, staying, steps_along, way_paper)
-from tests.helper import (A, ALL3, B, C, EVEN, LONGEST, SHAPES, TOO_LONG, VALUES, long_single,
-                          made_up_member, made_up_stair, sample_lots, small_cases)
+from tests.helper import (A, ALL3, B, EVEN, LONGEST, SHAPES, TOO_LONG, VALUES, long_single, made_up_member, made_up_stair,
+                          sample_lots, small_cases)
 
 LOT = Lot((3,), (A.power(2), B.power(3)))
 LARGEST = 10 ** 4000 - 1

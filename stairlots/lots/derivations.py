@@ -1,7 +1,7 @@
 """Derivations: steps from the makers of a lot to one of its members."""
 
 from stairlots.base.shapes import check_shape
-from stairlots.base.wholes import is_index, is_whole
+from stairlots.base.wholes import is_index
 from stairlots.errors import InvalidOperation, InvalidStair, TooMany
 from stairlots.lots.chains import divided, grown
 from stairlots.lots.lots import check_lot, plan_for
