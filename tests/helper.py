@@ -4,6 +4,8 @@ import random
 
 from stairlots.base.ratios import Ratio
 from stairlots.base.shapes import places
+from stairlots.books.books import Book
+from stairlots.books.polynomials import Polynomial
 from stairlots.errors import InvalidShape, ParseError
 from stairlots.lots.lots import Lot
 from stairlots.maps.maps import LotMap
@@ -33,6 +35,9 @@ OTHERS = (
     Ratio(1, 2), Ratio(3), A, Stair.one((2,)), Stair.one((2, 3)), ALL3, Lot((2,), ()), Shadow(ALL3, 2),
     (A, B), [A, B], (Ratio(1),), (Stair.one((2,)),), (A, Stair.one((4,))), InvalidShape("no"), ParseError(0),
     Rest(ALL3, Lot((3,), (C,))), LotMap(ALL3, (A.power(5), B)), (ALL3,), ("led", ALL3), ("map", LotMap(ALL3, (A, B))),
+    Polynomial(0, {}), Polynomial(2, {(1, 0): Ratio(1, 2)}), {(1, 0): Ratio(1, 2)}, Book(ALL3), Book(Lot((2,), ())),
+    (Ratio(1), Ratio(0), Ratio(1, 2)), ((Ratio(1), Ratio(0), Ratio(1, 2)),), (Ratio(1), Ratio(0), 0),
+    [Ratio(1), Ratio(0), Ratio(0)], ("barred", True), ((1, 0, 0), (0, 1, 0), (0, 0, 2)),
 )
 VALUES = NUMBERS + OTHERS
 

@@ -16,10 +16,10 @@ BARRED_NODES = (ast.Try, ast.Global, ast.AsyncFunctionDef, ast.Await, ast.With, 
                 ast.Import, ast.AnnAssign, ast.Match, ast.NamedExpr, ast.YieldFrom)
 BARRED_WORDS = re.compile(r"\b(type|typing|enum|Enum|Generic|Protocol|ABC|namedtuple|register|mro|elements|open|input|law|"
                           r"eval|exec|globals|locals|vars|dir|id|hash|object|chr|print|super|format|_wall)\b")
-METHODS = set("append extend items get split join pop bit_length".split())
+METHODS = set("append extend items get split join pop bit_length values setdefault rjust".split())
 CHANGES = {"append", "extend", "pop"}
 OWN_KINDS = (ast.List, ast.ListComp, ast.Dict, ast.DictComp)
-LIBRARY = {"math": {"gcd"}}
+LIBRARY = {"math": {"gcd", "lcm"}}
 
 
 def bound_names(function):
@@ -36,6 +36,18 @@ def is_made_here(value):
         return True
     # A sign such as `*` or `+` does not plainly make one where classes of the package define it.
     return isinstance(value, ast.Call) and isinstance(value.func, ast.Name) and value.func.id in ("list", "dict", "sorted")
+
+
+def is_empty_dict(value):
+    """Whether an expression makes a new dict without keys."""
+    return isinstance(value, ast.Dict) and not value.keys
+
+
+def is_own_list_under_key(spot):
+    """Whether an expression is `found.setdefault(key, [])`: a list that stands in a dict."""
+    if not (isinstance(spot, ast.Call) and isinstance(spot.func, ast.Attribute) and spot.func.attr == "setdefault"):
+        return False
+    return isinstance(spot.func.value, ast.Name) and isinstance(spot.args[1], ast.List) and not spot.args[1].elts
 
 
 def is_made_of_own(value):
@@ -171,6 +183,8 @@ class LanguageTest(unittest.TestCase):
             if isinstance(spot, ast.Subscript):
                 self.assertIsInstance(spot.value, ast.Name)
                 yield spot.value.id, is_made_of_own
+            elif is_own_list_under_key(spot):
+                yield spot.func.value.id, is_empty_dict
             else:
                 self.assertIsInstance(spot, ast.Name)
                 yield spot.id, is_made_here
@@ -202,6 +216,8 @@ class LanguageTest(unittest.TestCase):
             "Shadow": "lot modulus chain leads size __contains__ members __len__ __eq__ __str__",
             "Rest": "lot normal size kind least is_same order members are_alike alike_paper is_alike_paper __eq__ __str__",
             "LotMap": "lot images target kernel image graph __call__ forth back behind __eq__ __str__",
+            "Polynomial": "variables terms value_at __add__ __sub__ __mul__ __eq__ __len__ __bool__ __str__",
+            "Book": "lot products powers brackets multiplied raised exchanged is_like __eq__ __len__ __str__",
         }
         found = {}
         for path, text, tree in self.trees():

@@ -136,6 +136,11 @@ def key_of(lot_map):
     return lot_map._lot.shape, lot_map._target, lot_map._rows
 
 
+def pairs_along(lot_map):
+    """The chain members of the lot, and the stairs to which they are led."""
+    return lot_map._lot.chain, images_of_chain(lot_map._lot, lot_map._images, lot_map._rows)
+
+
 def check_images(lot, images):
     """The errors of a lot and images for it."""
     check_lot(lot)
