@@ -141,6 +141,17 @@ def lot_with(shape, plan, rows):
     return made
 
 
+def lot_of_chain(shape, stairs):
+    """The lot of a shape with these stairs as its least chain, or None if they are no least chain."""
+    plan = plan_of(shape)
+    if len(stairs) > len(plan):
+        return None
+    rows = grown(plan, [stair.numbers for stair in stairs])[0]
+    if [row for row in rows if row is not None] != [stair.numbers for stair in stairs]:
+        return None
+    return lot_with(shape, plan, rows)
+
+
 def plan_for(lot):
     """The plan of the shape of a lot."""
     return lot._plan

@@ -21,10 +21,18 @@ def closure(lot, other):
 
 
 def is_led_into_itself(lot, other):
-    """Whether each member of the lot leads the other lot into itself.
+    """Whether each member of the lot leads the other lot into itself."""
+    return is_kept(plan_for(lot), rows_of(other), makers_of(lot))
 
-    It is enough that each maker leads each chain member into it: the lead numbers stay, so that nothing is left out.
+
+def is_kept(plan, rows, movers):
+    """Whether all stairs that some stairs make lead the lot with this chain into itself.
+
+    It is enough that each of these leads each chain member into it: the lead numbers stay, so that nothing is left out.
     """
-    plan = plan_for(lot)
-    inner = [row for row in rows_of(other) if row is not None]
-    return all([has_member(plan, rows_of(other), bracket(plan, one, row)) for one in makers_of(lot) for row in inner])
+    for row in rows:
+        if row is not None:
+            for mover in movers:
+                if not has_member(plan, rows, bracket(plan, mover, row)):
+                    return False
+    return True

@@ -46,13 +46,11 @@ class Stair:
     @classmethod
     def read(cls, text):
         """The stair whose `str` the text is."""
-        if not isinstance(text, str):
-            raise ParseError(0)
-        blocks = [[row.split(" ") for row in block.split("/")] for block in text.split("; ")]
+        blocks = blocks_of(text) if isinstance(text, str) else []
         shape = tuple([len(rows) + 1 for rows in blocks])
         if not is_shape(shape) or not all([are_rows(rows) for rows in blocks]):
             raise ParseError(0)
-        return cls(shape, {(b, i, j): read_integer(blocks[b][i][j - i - 1]) for b, i, j in places(shape)})
+        return cls(shape, entries_of(shape, blocks))
 
     @property
     def shape(self):
@@ -189,6 +187,24 @@ def is_square_row(value, at, size):
     if not all([is_integer(number) for number in value]):
         return False
     return value[at] == 1 and not any(value[:at])
+
+
+def blocks_of(text):
+    """The words of a text: for each block a list of rows, which are lists of words."""
+    return [[row.split(" ") for row in block.split("/")] for block in text.split("; ")]
+
+
+def entries_of(shape, blocks):
+    """The entries of the words of a text."""
+    return {(b, i, j): read_integer(blocks[b][i][j - i - 1]) for b, i, j in places(shape)}
+
+
+def read_stair(shape, text):
+    """The stair of a shape whose `str` the text is, or None."""
+    blocks = blocks_of(text)
+    if tuple([len(rows) + 1 for rows in blocks]) != shape or not all([are_rows(rows) for rows in blocks]):
+        return None
+    return Stair(shape, entries_of(shape, blocks))
 
 
 def are_rows(rows):

@@ -1,0 +1,1 @@
+"""Lots of an index: the lots within a lot, by their tables."""

@@ -1,0 +1,1 @@
+"""Workshops: lots that change, and wishes that they never lead."""
