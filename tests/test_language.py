@@ -19,7 +19,7 @@ BARRED_WORDS = re.compile(r"\b(type|typing|enum|Enum|Generic|Protocol|ABC|namedt
 METHODS = set("append extend items get split join pop bit_length values setdefault rjust partition startswith".split())
 CHANGES = {"append", "extend", "pop"}
 OWN_KINDS = (ast.List, ast.ListComp, ast.Dict, ast.DictComp)
-LIBRARY = {"math": {"gcd", "lcm"}}
+LIBRARY = {"math": {"gcd", "lcm", "factorial"}}
 
 
 def bound_names(function):

@@ -1,9 +1,8 @@
 """Books of exchanges: how the exponents of products, powers and brackets come of those of members."""
 
-from stairlots.base.wholes import is_integer
 from stairlots.books.forms import bracket_of_tables, exponents_in, member_table, raised_table
 from stairlots.books.polynomials import variable
-from stairlots.errors import InvalidNumber, InvalidOperation, TooMany
+from stairlots.errors import TooMany
 from stairlots.lots.lots import check_lot, plan_for, rows_of
 from stairlots.stair.tables import times
 
@@ -44,22 +43,16 @@ class Book:
 
     def multiplied(self, first, second):
         """The exponents of the product of two members."""
-        check_exponents(self._lot, first)
-        check_exponents(self._lot, second)
         return self._lot.exponents(self._lot.member(first) * self._lot.member(second))
 
     def raised(self, exponents, number):
         """The exponents of a power of a member."""
-        check_exponents(self._lot, exponents)
-        if not is_integer(number):
-            raise InvalidNumber(number)
         return self._lot.exponents(self._lot.member(exponents).power(number))
 
     def exchanged(self, first, second):
         """The exponents of the bracket of two members."""
-        check_exponents(self._lot, first)
-        check_exponents(self._lot, second)
-        return self._lot.exponents(self._lot.member(first).bracket(self._lot.member(second)))
+        one, other = self._lot.member(first), self._lot.member(second)
+        return self._lot.exponents(one.bracket(other))
 
     def is_like(self, value):
         """Whether the value is a book with the same products."""
@@ -79,11 +72,3 @@ def both_tables(lot):
     """The tables of forms of two members, the exponents of the first one being the first variables."""
     plan, chain, many = plan_for(lot), rows_of(lot), len(lot)
     return member_table(plan, chain, 2 * many, 0), member_table(plan, chain, 2 * many, many)
-
-
-def check_exponents(lot, value):
-    """InvalidOperation unless the value is a tuple of one integer for each lead of the lot."""
-    if not isinstance(value, tuple) or len(value) != len(lot):
-        raise InvalidOperation("there is one exponent for each lead")
-    if not all([is_integer(number) for number in value]):
-        raise InvalidOperation("exponents are integers")

@@ -231,21 +231,23 @@ def whole_terms(terms, bottom):
 
 def value_of(variables, terms, numbers):
     """The value of terms."""
-    powers = [powers_of(number) for number in numbers]
+    told = [(exponents_of(code, variables), ratio) for code, ratio in terms.items()]
+    powers = [powers_of(number, max([exponents[at] for exponents, _ in told], default=0))
+              for at, number in enumerate(numbers)]
     pairs = []
-    for code, ratio in terms.items():
+    for exponents, ratio in told:
         made = ratio.top
-        for at, exponent in enumerate(exponents_of(code, variables)):
+        for at, exponent in enumerate(exponents):
             if exponent:
                 made = made * powers[at][exponent]
         pairs.append((made, ratio.bottom))
     return sum_of_pairs(pairs)
 
 
-def powers_of(number):
-    """The powers of an integer with the exponents that terms can have."""
+def powers_of(number, most):
+    """The powers of an integer with the exponents from 0 to `most`."""
     found = [1]
-    for _ in range(MAX_EXPONENT):
+    for _ in range(most):
         found.append(found[-1] * number)
     return found
 

@@ -13,8 +13,8 @@ class Frame:
     """A lot within which tables are told.
 
     `spots` has the indices of its lead places, and `rows` the entries of its chain members. `meets` tells for two of
-    these, by their indices i and j, the least index of one that is needed for the brackets of those from i on and those
-    from j on; it is the number of chain members if all of these brackets are one.
+    these, by their indices i and j, with j at least i, the least index of one that is needed for the brackets of those
+    from i on and those from j on; it is the number of chain members if all of these brackets are one.
     """
 
     def __init__(self, plan, chain):
@@ -24,15 +24,17 @@ class Frame:
         self.meets = meets_of(plan, self.spots, self.rows)
 
 
-def meets_of(plan, spots, members):
+def meets_of(plan, spots, rows):
     """The least indices that are needed for brackets of chain members (see Frame)."""
-    many = len(members)
+    many = len(rows)
     rank = {spot: index for index, spot in enumerate(spots)}
     found = [[many for _ in range(many + 1)] for _ in range(many + 1)]
     for i in reversed(range(many)):
-        for j in reversed(range(many)):
-            lead = lead_at(bracket(plan, members[i], members[j]))
-            found[i][j] = min(many if lead is None else rank[lead], found[i + 1][j], found[i][j + 1])
+        for j in reversed(range(i, many)):
+            # A bracket leads where the difference of both products leads.
+            there, back = times(plan, rows[i], rows[j]), times(plan, rows[j], rows[i])
+            lead = lead_at([a - b for a, b in zip(there, back)])
+            found[i][j] = min(many if lead is None else rank[lead], found[i + 1][max(i + 1, j)], found[i][j + 1])
     return found
 
 

@@ -1,5 +1,7 @@
 """Logs of stairs, and the stairs with a log."""
 
+from math import factorial
+
 from stairlots.base.shapes import check_shape
 from stairlots.errors import InvalidStair
 from stairlots.roots.rows import bottom_of, check_row, factors_of, in_integers, in_ratios
@@ -62,28 +64,27 @@ def check_rows(shape, one, other):
 
 def log_in_integers(plan, numbers):
     """The log of the table with these integers beside the ones."""
-    found = numbers
-    part = numbers
-    many = 1
-    while True:
-        part = times_between(plan, part, numbers, 0)
-        if not any(part):
-            return found
-        many += 1
-        divisor = many if many % 2 else -many
-        found = tuple([number + more // divisor for number, more in zip(found, part)])
+    powers = powers_of(plan, numbers)
+    return divided_sum(powers, [many if many % 2 else -many for many in range(1, len(powers) + 1)])
 
 
 def table_in_integers(plan, numbers):
     """The integers beside the ones of the table that has these as its log."""
-    found = numbers
+    powers = powers_of(plan, numbers)
+    return divided_sum(powers, [factorial(many) for many in range(1, len(powers) + 1)])
+
+
+def powers_of(plan, numbers):
+    """The powers, from the first one on, of what stands beside the ones, as long as they are not 0."""
+    found = [numbers]
     part = numbers
-    divisor = 1
-    many = 1
-    while True:
+    while any(part):
         part = times_between(plan, part, numbers, 0)
-        if not any(part):
-            return found
-        many += 1
-        divisor = divisor * many
-        found = tuple([number + more // divisor for number, more in zip(found, part)])
+        found.append(part)
+    return found
+
+
+def divided_sum(powers, divisors):
+    """The sum of powers that are divided by an integer each."""
+    parts = [[number // divisor for number in power] for power, divisor in zip(powers, divisors)]
+    return tuple([sum(entries) for entries in zip(*parts)])

@@ -1,7 +1,7 @@
 """Spans: the rows that are sums of multiples of logs, and the lots that belong to them."""
 
 from stairlots.base.ratios import Ratio
-from stairlots.base.shapes import check_shape
+from stairlots.base.shapes import check_shape, places
 from stairlots.errors import InvalidSpan
 from stairlots.lots.kernels import parted
 from stairlots.lots.lots import check_lot, lot_with
@@ -47,7 +47,7 @@ def lot_with_rows(shape, rows):
     # left of the log at the next place is a sum, as nothing in the span can change it but for a lead.
     for at in range(len(plan)):
         if at not in leads:
-            left = [left_at(shape, plan, rows, row, at) for row in chain]
+            left = [left_at(shape, plan, rows, row, at) for row in chain[:at + 1]] + [Ratio(0) for _ in chain[at + 1:]]
             bottom = bottom_of(left)
             chain = parted(plan, chain, [ratio.top * (bottom // ratio.bottom) for ratio in left])[0]
     return lot_with(shape, plan, chain)
@@ -86,5 +86,9 @@ def are_least(rows):
 
 def are_closed(shape, rows):
     """Whether the brackets of least rows are sums of their multiples."""
-    pairs = [(one, other) for at, one in enumerate(rows) for other in rows[at + 1:]]
+    order = places(shape)
+    leads = [order[lead_at(row)] for row in rows]
+    far = [column - row for _, row, column in leads]
+    # A bracket is 0 at all distances less than the sum of those of both leads.
+    pairs = [(rows[i], rows[j]) for i in range(len(rows)) for j in range(i) if far[i] + far[j] < max(shape)]
     return all([not any(less_multiples(bracket_of_logs(shape, one, other), rows)) for one, other in pairs])
