@@ -231,11 +231,10 @@ def whole_terms(terms, bottom):
 
 def value_of(variables, terms, numbers):
     """The value of terms."""
-    told = [(exponents_of(code, variables), ratio) for code, ratio in terms.items()]
-    powers = [powers_of(number, max([exponents[at] for exponents, _ in told], default=0))
-              for at, number in enumerate(numbers)]
+    rows = [exponents_of(code, variables) for code in terms]
+    powers = [powers_of(number, max([row[at] for row in rows], default=0)) for at, number in enumerate(numbers)]
     pairs = []
-    for exponents, ratio in told:
+    for exponents, ratio in zip(rows, list(terms.values())):
         made = ratio.top
         for at, exponent in enumerate(exponents):
             if exponent:
