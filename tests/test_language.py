@@ -20,6 +20,11 @@ METHODS = set("append extend items get split join pop bit_length values setdefau
 CHANGES = {"append", "extend", "pop"}
 OWN_KINDS = (ast.List, ast.ListComp, ast.Dict, ast.DictComp)
 LIBRARY = {"math": {"gcd", "lcm", "factorial"}}
+CHANGING_METHODS = set("append clear extend insert pop remove reverse setdefault sort update add discard".split())
+# What goes through these goes over what they are passed, and what comes of other calls is new.
+PASSING_ON = {"enumerate", "zip", "reversed", "iter"}
+VIEWS = {"items", "keys", "values"}
+MOST_EXPONENT = 64
 
 
 def bound_names(function):
@@ -53,6 +58,101 @@ def is_own_list_under_key(spot):
 def is_made_of_own(value):
     """Whether an expression makes a new list of new lists or dicts."""
     return isinstance(value, ast.ListComp) and isinstance(value.elt, OWN_KINDS)
+
+
+def barred_exponents(tree):
+    """The texts of the powers whose exponent is not written out as an integer from 0 to 64."""
+    found = []
+    for node in ast.walk(tree):
+        if isinstance(node, ast.BinOp) and isinstance(node.op, ast.Pow):
+            exponent = node.right
+        elif isinstance(node, ast.AugAssign) and isinstance(node.op, ast.Pow):
+            exponent = node.value
+        else:
+            continue
+        number = getattr(exponent, "value", None)
+        if not (isinstance(exponent, ast.Constant) and isinstance(number, int)) or isinstance(number, bool) \
+                or not 0 <= number <= MOST_EXPONENT:
+            found.append(ast.unparse(node))
+    return found
+
+
+def stands_for(value):
+    """The texts of the names, fields and items that an expression may be, without a copy."""
+    if isinstance(value, ast.IfExp):
+        return stands_for(value.body) | stands_for(value.orelse)
+    if isinstance(value, ast.BoolOp):
+        return set().union(*[stands_for(part) for part in value.values])
+    if isinstance(value, ast.Subscript) and isinstance(value.slice, ast.Slice) and isinstance(value.ctx, ast.Load):
+        return set()
+    if isinstance(value, (ast.Name, ast.Attribute, ast.Subscript)):
+        return {ast.unparse(value)}
+    return set()
+
+
+def walks(value):
+    """The texts of what a loop goes over, if this expression stands in its head."""
+    if isinstance(value, ast.Call) and isinstance(value.func, ast.Name) and value.func.id in PASSING_ON:
+        return set().union(*[walks(part) for part in value.args])
+    if isinstance(value, ast.Call) and isinstance(value.func, ast.Attribute) and value.func.attr in VIEWS:
+        return walks(value.func.value)
+    if isinstance(value, ast.IfExp):
+        return walks(value.body) | walks(value.orelse)
+    if isinstance(value, ast.BoolOp):
+        return set().union(*[walks(part) for part in value.values])
+    return stands_for(value)
+
+
+def pairs_of_names(target, value):
+    """The pairs of texts that an assignment makes names of one value."""
+    if isinstance(target, (ast.Tuple, ast.List)):
+        if isinstance(value, (ast.Tuple, ast.List)) and len(target.elts) == len(value.elts):
+            return [pair for one, other in zip(target.elts, value.elts) for pair in pairs_of_names(one, other)]
+        return []
+    return [(one, other) for one in stands_for(target) for other in stands_for(value)]
+
+
+def same_lists(function):
+    """The dict from each text to all texts that may stand for the same list or dict in a function."""
+    found = {}
+    for node in ast.walk(function):
+        for target in node.targets if isinstance(node, ast.Assign) else []:
+            for one, other in pairs_of_names(target, node.value):
+                joined = found.get(one, {one}) | found.get(other, {other})
+                found.update({text: joined for text in joined})
+    return found
+
+
+def changes_in(nodes):
+    """The texts of what is changed in some statements or expressions."""
+    found = set()
+    for node in [inner for outer in nodes for inner in ast.walk(outer)]:
+        if isinstance(node, ast.Call) and isinstance(node.func, ast.Attribute) and node.func.attr in CHANGING_METHODS:
+            found |= stands_for(node.func.value)
+        elif isinstance(node, ast.Subscript) and isinstance(node.ctx, (ast.Store, ast.Del)):
+            found |= stands_for(node.value)
+        elif isinstance(node, ast.AugAssign):
+            found |= stands_for(node.target)
+    return found
+
+
+def loops_in(function):
+    """The pairs of the heads and the rows of the loops and comprehensions in a function."""
+    for node in ast.walk(function):
+        if isinstance(node, ast.For):
+            yield [node.iter], node.body
+        elif isinstance(node, (ast.ListComp, ast.SetComp, ast.DictComp, ast.GeneratorExp)):
+            yield [part.iter for part in node.generators], [node]
+
+
+def changed_where_walked(function):
+    """The texts of what a loop or a comprehension of a function goes over and, under some name, changes."""
+    same = same_lists(function)
+    found = set()
+    for heads, rows in loops_in(function):
+        changed = {text for one in changes_in(rows) for text in same.get(one, {one})}
+        found |= changed & set().union(*[walks(head) for head in heads])
+    return found
 
 
 class LanguageTest(unittest.TestCase):
@@ -138,8 +238,6 @@ class LanguageTest(unittest.TestCase):
                 if isinstance(node, ast.AugAssign):
                     self.assertIsInstance(node.target, ast.Name)
                     self.assertIsInstance(node.value, ast.Constant)
-                if isinstance(node, ast.BinOp) and isinstance(node.op, ast.Pow):
-                    self.assertIsInstance(node.right, ast.Constant)
 
     def test_builtins(self):
         for path, text, tree in self.trees():
@@ -191,6 +289,51 @@ class LanguageTest(unittest.TestCase):
             else:
                 self.assertIsInstance(spot, ast.Name)
                 yield spot.id, is_made_here
+
+    def test_exponents(self):
+        for path, text, tree in self.trees():
+            self.assertEqual(barred_exponents(tree), [], path)
+
+    def test_barred_exponents_are_seen(self):
+        for text in ("2 ** 65", "10 ** 120", "2 ** -1", "2 ** n", "2 ** True", "2 ** 3 ** 4", "a = (1, 9 ** (4 + 4))"):
+            self.assertEqual(len(barred_exponents(ast.parse(text))), 1, text)
+        self.assertEqual(barred_exponents(ast.parse("a **= 65")), ["a **= 65"])
+        self.assertEqual(barred_exponents(ast.parse("a = [n ** 0, 10 ** 64, {**b}]\na **= 2\nf(**b)")), [])
+
+    def test_loops_do_not_change_what_they_walk(self):
+        for function in self.functions():
+            self.assertEqual(changed_where_walked(function), set(), function.name)
+
+    def test_changes_of_what_is_walked_are_seen(self):
+        barred = (
+            "for x in xs: xs.append(x)",
+            "for k, x in enumerate(xs): xs[k] = x",
+            "for x, y in zip(ys, reversed(xs)): del xs[0]",
+            "for x in xs:\n  if x:\n    xs.pop()",
+            "for k, x in xs.items(): xs.setdefault(x, [])",
+            "for x in box.rows: box.rows.append(x)",
+            "for x in xs[0]: xs[0].append(x)",
+            "for x in (ys if ys else xs): xs.append(x)",
+            "for x in ys or xs: xs.append(x)",
+            "ys = xs\nfor x in xs: ys.append(x)",
+            "ys = box.rows\nfor x in ys: box.rows.append(x)",
+            "ys = xs if k else [1]\nfor x in xs: ys.append(x)",
+            "ys = zs = xs\nfor x in zs: ys.append(x)",
+            "ys, k = xs, 0\nfor x in xs: ys.append(x)",
+            "[xs.pop() for x in xs if x]",
+            "while k:\n  ys = []\n  for x in xs: ys.append(x)\n  xs = ys",
+        )
+        for text in barred:
+            self.assertTrue(changed_where_walked(ast.parse(text)), text)
+        allowed = (
+            "for x in list(xs): xs.append(x)",
+            "for x in xs: ys.append(x)",
+            "for x in xs[1:]: xs.append(x)",
+            "ys = xs[:]\nfor x in xs: ys.append(x)",
+            "while k:\n  ys = []\n  for x in xs: ys.append(x)\n  xs = list(ys)",
+        )
+        for text in allowed:
+            self.assertEqual(changed_where_walked(ast.parse(text)), set(), text)
 
     def test_double_underscore_methods(self):
         for function in self.functions():

@@ -19,7 +19,7 @@ _BASE = 256
 # With the first one added, each digit from 61 to 127 gets the bit that the second one has there.
 _LIFT = 67 * ((256 ** 12 - 1) // 255)
 _HIGH = 128 * ((256 ** 12 - 1) // 255)
-_MOST_BOTTOM = 10 ** 120
+_MOST_BOTTOM = 10 ** 60 * 10 ** 60
 _FEW_PAIRS = 200000
 
 

@@ -126,7 +126,7 @@ def tables_of_index(frame, number):
                 for row, numbers in rows_ahead(frame, at, lead, table):
                     if fits(frame, chain, numbers, at, table):
                         fresh.append(((row,) + table, with_row(chain, frame.spots[at], numbers), left // lead))
-        found = fresh
+        found = list(fresh)
     return sorted([(table, chain) for table, chain, left in found if left == 1], key=lambda pair: pair[0])
 
 
